@@ -13,7 +13,7 @@ func Check(funcs [][]api.Ins, reducers []int) (api.Errno, int) {
 	if at, bad := badFunction(funcs, len(reducers)); bad {
 		return api.ErrIns, at
 	}
-	if countFrames(funcs) > api.MaxFrames {
+	if measure(funcs)[0].frames > api.MaxFrames {
 		return api.ErrFrames, 0
 	}
 	return api.OK, 0

@@ -4,6 +4,7 @@ package distaff
 import (
 	"distaff/api"
 	"distaff/code"
+	"distaff/crew"
 	"distaff/serial"
 )
 
@@ -27,7 +28,10 @@ func (p *Program) Serial(seed uint64, argument int64) api.Outcome {
 
 // Run runs it by workers (P5).
 func (p *Program) Run(seed uint64, argument int64, workers int, script []api.Pick) (api.Outcome, api.Errno) {
-	return api.Outcome{}, api.OK
+	if e := crew.Check(workers, script); e != api.OK {
+		return api.Outcome{}, e
+	}
+	return crew.Run(p.code, seed, argument, workers, script), api.OK
 }
 
 // Sweep runs it by several scripts (P6).

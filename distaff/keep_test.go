@@ -3,6 +3,7 @@ package distaff_test
 import (
 	"reflect"
 	"runtime"
+	"slices"
 	"testing"
 
 	"distaff/api"
@@ -17,15 +18,45 @@ func gatherers() ([][]api.Ins, []int) {
 	}, []int{api.List, api.List, api.List, api.Sum}
 }
 
+// stealing: a script of three workers by which the root of gatherers is stolen, and set aside.
+func stealing() []api.Pick {
+	return []api.Pick{by(0), by(0), by(0), from(1, 0), by(1), by(1), by(0), from(2, 1), by(-1), by(0)}
+}
+
+func outcome(p *distaff.Program, workers int, script []api.Pick) api.Outcome {
+	o, _ := p.Run(7, 1, workers, script)
+	return o
+}
+
+// calls: each call that answers an outcome.
+func calls() map[string]func(*distaff.Program) api.Outcome {
+	return map[string]func(*distaff.Program) api.Outcome{
+		"Serial":       func(p *distaff.Program) api.Outcome { return p.Serial(7, 1) },
+		"Run by one":   func(p *distaff.Program) api.Outcome { return outcome(p, 1, nil) },
+		"Run by three": func(p *distaff.Program) api.Outcome { return outcome(p, 3, stealing()) },
+	}
+}
+
+// models: what those calls answer of gatherers.
+func models() map[string]api.Outcome {
+	funcs, reducers := gatherers()
+	one, _ := modelRun(funcs, reducers, 7, 1, 1, nil)
+	three, _ := modelRun(funcs, reducers, 7, 1, 3, stealing())
+	return map[string]api.Outcome{"Serial": modelSerial(funcs, reducers, 7, 1), "Run by one": one, "Run by three": three}
+}
+
 // P2: the same arguments, the same answer.
 func TestSameAnswer(t *testing.T) {
 	funcs, reducers := gatherers()
 	p, q := program(t, reducers, funcs...), program(t, reducers, funcs...)
-	first := p.Serial(7, 1)
-	p.Serial(8, 2)
-	for range 5 {
-		if !sameOutcome(p.Serial(7, 1), first) || !sameOutcome(q.Serial(7, 1), first) {
-			t.Fatal("another answer")
+	for name, call := range calls() {
+		first := call(p)
+		p.Serial(8, 2)
+		p.Run(8, 2, 4, nil)
+		for range 5 {
+			if !sameOutcome(call(p), first) || !sameOutcome(call(q), first) {
+				t.Fatalf("%s: another answer", name)
+			}
 		}
 	}
 }
@@ -63,11 +94,37 @@ func TestHandedInIsLeft(t *testing.T) {
 	}
 }
 
+// P2: a script is not written into, nor its spare room.
+func TestScriptIsLeft(t *testing.T) {
+	funcs, reducers := gatherers()
+	p := program(t, reducers, funcs...)
+	picks := append(stealing(), from(77, 77), from(-77, -77))
+	was := slices.Clone(picks)
+	for _, n := range []int{0, 3, len(stealing()), len(picks)} {
+		run(t, p, 3, picks[:n])
+		if !slices.Equal(picks, was) {
+			t.Fatalf("%v, was %v", picks, was)
+		}
+	}
+}
+
+// P2: a script is not kept: what is written into it later changes nothing.
+func TestScriptIsNotKept(t *testing.T) {
+	funcs, reducers := gatherers()
+	p, picks, want := program(t, reducers, funcs...), stealing(), models()
+	first := outcome(p, 3, picks)
+	for i := range picks {
+		picks[i] = by(2)
+	}
+	for _, o := range []api.Outcome{first, outcome(p, 3, stealing())} {
+		checkOutcome(t, "Run by three", o, want["Run by three"])
+	}
+}
+
 // P2: no list that is handed in is kept.
 func TestHandedInIsNotKept(t *testing.T) {
 	funcs, reducers := gatherers()
 	p := program(t, reducers, funcs...)
-	want := p.Serial(7, 1)
 	for f := range funcs {
 		for i := range funcs[f] {
 			funcs[f][i] = api.Ins{Op: api.Spawn}
@@ -77,8 +134,8 @@ func TestHandedInIsNotKept(t *testing.T) {
 	for i := range reducers {
 		reducers[i] = api.Least
 	}
-	if got := p.Serial(7, 1); !sameOutcome(got, want) {
-		t.Errorf("%+v, want %+v", got, want)
+	for name, want := range models() {
+		checkOutcome(t, name, calls()[name](p), want)
 	}
 }
 
@@ -93,6 +150,10 @@ func scribble(o api.Outcome) {
 	for i := range o.Values[:cap(o.Values)] {
 		o.Values[:cap(o.Values)][i] = api.Value{N: 77}
 	}
+	scribbleTrace(o)
+}
+
+func scribbleTrace(o api.Outcome) {
 	for i := range o.Trace[:cap(o.Trace)] {
 		o.Trace[:cap(o.Trace)][i] = api.Event{Worker: 77, R: 77, N: 77}
 	}
@@ -100,49 +161,53 @@ func scribble(o api.Outcome) {
 
 // P2: what comes out may be written into.
 func TestAnswersAreNew(t *testing.T) {
-	p, e, _ := distaff.New(gatherers())
-	if e != api.OK {
-		t.Fatal(e)
-	}
-	want, other := p.Serial(7, 1), p.Serial(7, 1)
-	scribble(other)
-	if later := p.Serial(7, 1); !sameOutcome(later, want) {
-		t.Errorf("a later answer: %+v, want %+v", later, want)
-	}
 	funcs, reducers := gatherers()
-	if model := modelSerial(funcs, reducers, 7, 1); !sameOutcome(want, model) {
-		t.Errorf("an earlier answer: %+v, want %+v", want, model)
+	p := program(t, reducers, funcs...)
+	for name, want := range models() {
+		call := calls()[name]
+		earlier := call(p)
+		scribble(call(p))
+		checkOutcome(t, name+", earlier", earlier, want)
+		for later, want := range models() {
+			checkOutcome(t, later+", behind "+name, calls()[later](p), want)
+		}
 	}
 }
 
 // P2: no two lists of one answer share memory.
 func TestListsAreApart(t *testing.T) {
 	funcs, reducers := gatherers()
-	p, model := program(t, reducers, funcs...), modelSerial(funcs, reducers, 7, 1)
-	for r := range 3 {
-		o := p.Serial(7, 1)
-		l := o.Values[r].L
-		for i := range l[:cap(l)] {
-			l[:cap(l)][i] = 77
+	p := program(t, reducers, funcs...)
+	for name, want := range models() {
+		for r := range 3 {
+			o := calls()[name](p)
+			l := o.Values[r].L
+			for i := range l[:cap(l)] {
+				l[:cap(l)][i] = 77
+			}
+			o.Values[r].L = want.Values[r].L
+			checkOutcome(t, name, o, want)
 		}
-		o.Values[r].L = model.Values[r].L
-		if !sameOutcome(o, model) {
-			t.Errorf("reducer %d: %+v, want %+v", r, o, model)
+		o := calls()[name](p)
+		scribbleTrace(o)
+		if !sameValues(o.Values, want.Values) {
+			t.Errorf("%s: %+v, want %+v", name, o.Values, want.Values)
 		}
 	}
 }
 
-// P2: one program may be run by several at once, and no goroutine is left.
+// P2: one program may be run by several at once.
 func TestAtOnce(t *testing.T) {
 	funcs, reducers := gatherers()
-	p := program(t, reducers, funcs...)
-	want := p.Serial(7, 1)
+	p, want := program(t, reducers, funcs...), models()
 	same := make(chan bool)
 	for range 8 {
 		go func() {
 			ok := true
 			for range 100 {
-				ok = ok && sameOutcome(p.Serial(7, 1), want)
+				for name, call := range calls() {
+					ok = ok && sameOutcome(call(p), want[name])
+				}
 			}
 			same <- ok
 		}()
@@ -154,11 +219,15 @@ func TestAtOnce(t *testing.T) {
 	}
 }
 
+// P2: no goroutine is left.
 func TestNoGoroutineIsLeft(t *testing.T) {
 	funcs, reducers := gatherers()
 	before := runtime.NumGoroutine()
 	for range 100 {
-		program(t, reducers, funcs...).Serial(7, 1)
+		p := program(t, reducers, funcs...)
+		for _, call := range calls() {
+			call(p)
+		}
 	}
 	if after := runtime.NumGoroutine(); after > before {
 		t.Errorf("%d goroutines, %d before", after, before)

@@ -16,24 +16,9 @@ func Run(c *code.Code, seed uint64, argument int64) api.Outcome {
 	for event := range events(c, frame.Root(seed, argument)) {
 		o.Trace = append(o.Trace, event)
 	}
-	o.Values = values(c, o.Trace)
+	o.Values = gather.Values(c.Kinds(), o.Trace)
 	o.Stats.Frames = c.Frames()
 	return o
-}
-
-// values: what the reducers make of what they are given, if that is told in the serial order.
-func values(c *code.Code, given []api.Event) []api.Value {
-	var out []api.Value
-	for r, kind := range c.Kinds() {
-		var v api.Value
-		for _, event := range given {
-			if event.R == r {
-				gather.Give(&v, kind, event.N)
-			}
-		}
-		out = append(out, v)
-	}
-	return out
 }
 
 // events yields what the reducers are given, in the serial order.
