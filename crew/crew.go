@@ -3,6 +3,7 @@ package crew
 
 import (
 	"iter"
+	"slices"
 
 	"distaff/api"
 	"distaff/code"
@@ -10,16 +11,18 @@ import (
 	"distaff/gather"
 )
 
-// Check tells the first error of what a run is told beside the program, in the order of P5.
-func Check(workers int, script []api.Pick) api.Errno {
+// Check tells the first error of what a run or a sweep is told beside the program, in the order of P5 and P6.
+func Check(workers int, scripts ...[]api.Pick) api.Errno {
 	if workers < 1 || workers > api.MaxWorkers {
 		return api.ErrWorkers
 	}
-	if len(script) > api.MaxPicks {
+	if len(scripts) > api.MaxScripts || slices.ContainsFunc(scripts, isTooLong) {
 		return api.ErrScript
 	}
 	return api.OK
 }
+
+func isTooLong(script []api.Pick) bool { return len(script) > api.MaxPicks }
 
 // Run tells how the program goes by workers and a script that have passed Check.
 func Run(c *code.Code, seed uint64, argument int64, workers int, script []api.Pick) api.Outcome {

@@ -36,5 +36,8 @@ func (p *Program) Run(seed uint64, argument int64, workers int, script []api.Pic
 
 // Sweep runs it by several scripts (P6).
 func (p *Program) Sweep(seed uint64, argument int64, workers int, scripts [][]api.Pick) ([]api.Outcome, api.Errno) {
-	return nil, api.OK
+	if e := crew.Check(workers, scripts...); e != api.OK {
+		return nil, e
+	}
+	return crew.Sweep(p.code, seed, argument, workers, scripts), api.OK
 }

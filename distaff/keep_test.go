@@ -5,6 +5,7 @@ import (
 	"runtime"
 	"slices"
 	"testing"
+	"time"
 
 	"distaff/api"
 	"distaff/distaff"
@@ -28,12 +29,19 @@ func outcome(p *distaff.Program, workers int, script []api.Pick) api.Outcome {
 	return o
 }
 
-// calls: each call that answers an outcome.
+// swept: the outcome of stealing, which is told between others.
+func swept(p *distaff.Program) api.Outcome {
+	out, _ := p.Sweep(7, 1, 3, [][]api.Pick{nil, again(9, 0), stealing(), stealing()[:4]})
+	return out[2]
+}
+
+// calls: each call that answers an outcome, or several.
 func calls() map[string]func(*distaff.Program) api.Outcome {
 	return map[string]func(*distaff.Program) api.Outcome{
 		"Serial":       func(p *distaff.Program) api.Outcome { return p.Serial(7, 1) },
 		"Run by one":   func(p *distaff.Program) api.Outcome { return outcome(p, 1, nil) },
 		"Run by three": func(p *distaff.Program) api.Outcome { return outcome(p, 3, stealing()) },
+		"Sweep":        swept,
 	}
 }
 
@@ -42,7 +50,7 @@ func models() map[string]api.Outcome {
 	funcs, reducers := gatherers()
 	one, _ := modelRun(funcs, reducers, 7, 1, 1, nil)
 	three, _ := modelRun(funcs, reducers, 7, 1, 3, stealing())
-	return map[string]api.Outcome{"Serial": modelSerial(funcs, reducers, 7, 1), "Run by one": one, "Run by three": three}
+	return map[string]api.Outcome{"Serial": modelSerial(funcs, reducers, 7, 1), "Run by one": one, "Run by three": three, "Sweep": three}
 }
 
 // P2: the same arguments, the same answer.
@@ -53,6 +61,7 @@ func TestSameAnswer(t *testing.T) {
 		first := call(p)
 		p.Serial(8, 2)
 		p.Run(8, 2, 4, nil)
+		p.Sweep(8, 2, 4, [][]api.Pick{nil, stealing()})
 		for range 5 {
 			if !sameOutcome(call(p), first) || !sameOutcome(call(q), first) {
 				t.Fatalf("%s: another answer", name)
@@ -228,6 +237,10 @@ func TestNoGoroutineIsLeft(t *testing.T) {
 		for _, call := range calls() {
 			call(p)
 		}
+	}
+	// one that has told the WaitGroup that it is done may still be counted for a moment
+	for i := 0; i < 1000 && runtime.NumGoroutine() > before; i++ {
+		time.Sleep(time.Millisecond)
 	}
 	if after := runtime.NumGoroutine(); after > before {
 		t.Errorf("%d goroutines, %d before", after, before)
